@@ -1,0 +1,1 @@
+"""Drawback: duties given back on what goes out again."""
