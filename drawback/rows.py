@@ -1,6 +1,6 @@
 """Lots and outs: their bounds, their orders, and the refund of taken counts."""
 
-from drawback.days import check_day
+from drawback.days import check_day, check_term
 from drawback.errors import BadCount, BadDuty, BadRows, BadTaken
 
 MOST_ROWS = 30
@@ -44,6 +44,14 @@ def checked_outs(outs):
         check_count(count)
         told.append((day, count))
     return told
+
+
+def checked_both(lots, outs, term):
+    """Copies of good lots and of good outs, with a good term."""
+    goods = checked_lots(lots)
+    gone = checked_outs(outs)
+    check_term(term)
+    return (goods, gone)
 
 
 def checked_taken(lots, taken):

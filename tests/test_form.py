@@ -130,9 +130,29 @@ def faults_of_top(tree):
         yield "L2, L15 not at the top"
 
 
+def drawn_or_class(node):
+    """The names that a row of a file's top draws in, or the name of its class."""
+    if isinstance(node, ast.ImportFrom):
+        return [name.asname or name.name for name in node.names]
+    return [node.name] if isinstance(node, ast.ClassDef) else []
+
+
+def faults_of_locals(tree):
+    taken = [name for node in tree.body for name in drawn_or_class(node)]
+    for top in tree.body:
+        for node in ast.walk(top):
+            if isinstance(node, ast.arg):
+                if node.arg in taken or hasattr(builtins, node.arg):
+                    yield f"L15 {node.arg}"
+            elif isinstance(node, ast.Name) and isinstance(node.ctx, ast.Store):
+                if node.id in taken:
+                    yield f"L15 {node.id}"
+
+
 def faults(text):
     tree = ast.parse(text)
     found = list(faults_of_text(text)) + list(faults_of_names(tree)) + list(faults_of_top(tree))
+    found += list(faults_of_locals(tree))
     for node in ast.walk(tree):
         found += faults_of_node(node)
     return found
@@ -201,6 +221,8 @@ class Form(unittest.TestCase):
             "def f(x, y):\n    return x is y\n", "def _f():\n    return 1\n", "print(1)\n",
             "def f(min):\n    return 1\n" + "\n" * 400, "x = '" + "a" * 120 + "'\n",
             "def f():\n" + "    pass\n" * 40, "def f():\n    from drawback.days import reach\n",
+            "def f(len):\n    return 1\n", "from drawback.room import room\n\n\ndef f():\n    room = 1\n",
+            "class A:\n    pass\n\n\ndef f(A):\n    return 1\n",
         ]:
             self.assertNotEqual(faults(text), [], text)
 
