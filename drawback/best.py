@@ -20,7 +20,12 @@ def best(lots, outs, term):
     return best_of(goods, gone, term)
 
 
+def greatest_of(lots, outs, term):
+    """The greatest refund of good lots and outs."""
+    return refund(lots, best_of(lots, outs, term))
+
+
 def greatest(lots, outs, term):
     """The refund of the best counts."""
     goods, gone = checked_both(lots, outs, term)
-    return refund(goods, best_of(goods, gone, term))
+    return greatest_of(goods, gone, term)

@@ -17,6 +17,17 @@ FUNCTIONS = {
         "dealt(lots, outs, term, taken)", "is_dealing(lots, outs, term, rows)", "counts_of(lots, rows)",
     ],
     "papers": ["papers(lots, outs, term)", "good_paper(lots, outs, term, paper)"],
+    "worth": [
+        "lot_more(lots, outs, term, day, duty)", "out_more(lots, outs, term, day)",
+        "lot_less(lots, outs, term, at)", "out_less(lots, outs, term, at)",
+        "line_of(lots, outs, term, day, most)",
+    ],
+    "sureties": ["vouched(paid, wait, day)", "surety(paid, wait)"],
+}
+CLASSES = {
+    "kinds": ("Kinds()", [
+        "raw()", "made(parts)", "many()", "is_raw(kind)", "parts(kind)", "holds(kind)", "twin()",
+    ]),
 }
 
 
@@ -28,6 +39,17 @@ class Interface(unittest.TestCase):
                 with self.subTest(module=name, row=row):
                     function = row.split("(")[0]
                     self.assertEqual(function + str(inspect.signature(getattr(module, function))), row)
+
+    def test_each_class_is_there(self):
+        for name, (made, rows) in CLASSES.items():
+            module = importlib.import_module("drawback." + name)
+            kind = getattr(module, made.split("(")[0])
+            self.assertEqual(kind.__name__ + str(inspect.signature(kind)), made)
+            for row in rows:
+                with self.subTest(module=name, row=row):
+                    method = row.split("(")[0]
+                    given = str(inspect.signature(getattr(kind, method)))
+                    self.assertEqual(method + given.replace("self, ", "").replace("self", ""), row)
 
 
 if __name__ == "__main__":

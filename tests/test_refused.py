@@ -11,6 +11,7 @@ from drawback.errors import (
 )
 from drawback.papers import good_paper, papers
 from drawback.room import against, dealable, room
+from drawback.worth import line_of, lot_less, lot_more, out_less, out_more
 from refusals import FAR, NO_COUNTS, NO_DAYS, NO_DUTIES, NO_TERMS, outcome
 
 LOTS = [(10, 5, 3), (12, 4, 9), (30, 2, 1)]
@@ -19,7 +20,7 @@ NOT_DEALABLE = [[5, 4, 0], [5, 4, 2], [0, 0, 2]]
 
 GOOD = {
     "lots": LOTS, "outs": OUTS, "term": 3, "stretch": (10, 12), "taken": [4, 4, 1], "counts": [4, 4, 1],
-    "at": 1, "rows": [(0, 0, 1)], "named": [(0, 7, 1), (2, -1, 5)], "paper": (3, 8, [(10, 12)]),
+    "at": 1, "day": 12, "duty": 9, "most": 5, "rows": [(0, 0, 1)], "named": [(0, 7, 1), (2, -1, 5)], "paper": (3, 8, [(10, 12)]),
 }
 BAD = {
     "lots": [([(10, 5, 3)] * 31, BadRows), ([(0, 0, 0)] * 31, BadRows)]
@@ -36,6 +37,9 @@ BAD = {
         for counts in [[], [0, 0], [0, 0, 0, 0], [-1, 0, 0], [6, 0, 0], [0, 5, 0], [0, 0, FAR], [-FAR, 0, 0]]
     ],
     "at": [(at, NoPlace) for at in [-FAR, -3, -1, 3, 4, FAR]],
+    "day": [(day, BadDay) for day in NO_DAYS],
+    "duty": [(duty, BadDuty) for duty in NO_DUTIES],
+    "most": [(most, BadCount) for most in [-FAR, -40, -1, 41, 42, FAR]],
     "rows": [],
     "named": [([(0, 0, 1), (lot, 0, 1)], NoPlace) for lot in [-FAR, -3, -1, 3, 4, FAR]],
     "paper": [],
@@ -54,6 +58,11 @@ CALLS = [
     (counts_of, ["lots", "named"]),
     (papers, ["lots", "outs", "term"]),
     (good_paper, ["lots", "outs", "term", "paper"]),
+    (lot_more, ["lots", "outs", "term", "day", "duty"]),
+    (out_more, ["lots", "outs", "term", "day"]),
+    (lot_less, ["lots", "outs", "term", "at"]),
+    (out_less, ["lots", "outs", "term", "at"]),
+    (line_of, ["lots", "outs", "term", "day", "most"]),
 ]
 
 
