@@ -93,6 +93,28 @@ def refund_of(lots, counts):
     return total
 
 
+def are_stretches(stretches):
+    """Whether all are stretches of days, rising, none beginning ahead of an end."""
+    ends = [end for stretch in stretches for end in stretch]
+    if not all(1 <= end <= 999 for end in ends):
+        return False
+    if not all(first <= last for first, last in stretches):
+        return False
+    return all(one[1] < other[0] for one, other in zip(stretches, stretches[1:]))
+
+
+def sum_of_paper(lots, outs, term, duty, stretches):
+    """What the units of a good paper are, lot by lot and out by out."""
+    total = 0
+    for day, count, paid in lots:
+        if paid >= duty and not any(first <= day <= last for first, last in stretches):
+            total += count
+    for first, last in stretches:
+        for day, count in outs:
+            total += count if first <= day <= last + term else 0
+    return total
+
+
 def tiny(chance, most=5, units=4):
     """Few lots and outs of few units, of days that lie near one another."""
     span = chance.choice([3, 6, 10])

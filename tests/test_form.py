@@ -173,6 +173,29 @@ def own_methods(trees):
                         yield node.name
 
 
+def own_values(trees):
+    """The values of objects that some class, or a method, gives."""
+    for tree in trees:
+        for node in ast.walk(tree):
+            if isinstance(node, ast.Attribute) and isinstance(node.ctx, ast.Store):
+                yield node.attr
+
+
+def asked_values(trees):
+    """What is asked of a thing and not called."""
+    for tree in trees:
+        nodes = list(ast.walk(tree))
+        called = {id(node.func) for node in nodes if isinstance(node, ast.Call)}
+        for node in nodes:
+            if isinstance(node, ast.Attribute) and isinstance(node.ctx, ast.Load) and id(node) not in called:
+                yield node.attr
+
+
+def python_methods():
+    """The names that Python's own values have."""
+    return {name for value in ("", 0, [], (), {}, set(), b"") for name in dir(value)}
+
+
 def package_texts():
     texts = {}
     for name in sorted(os.listdir(PACKAGE)):
@@ -200,6 +223,14 @@ class Form(unittest.TestCase):
         for tree in trees:
             for name in method_calls(tree):
                 self.assertIn(name, free)
+
+    def test_methods_and_values_bear_free_names(self):
+        trees = [ast.parse(text) for text in package_texts().values()]
+        methods, values = set(own_methods(trees)), set(own_values(trees))
+        self.assertEqual(methods & values, set())
+        self.assertEqual(set(asked_values(trees)) - values, set())
+        self.assertEqual((methods & python_methods()) - set(METHODS), set())
+        self.assertEqual(values & python_methods(), set())
 
     def test_no_two_files_draw_from_one_another(self):
         draws = {}

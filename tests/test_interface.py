@@ -23,11 +23,21 @@ FUNCTIONS = {
         "line_of(lots, outs, term, day, most)",
     ],
     "sureties": ["vouched(paid, wait, day)", "surety(paid, wait)"],
+    "deeds": ["deed_line(deed)", "read_deed(text)"],
+    "minutes": ["written(house)", "read_minutes(text)"],
 }
 CLASSES = {
     "kinds": ("Kinds()", [
         "raw()", "made(parts)", "many()", "is_raw(kind)", "parts(kind)", "holds(kind)", "twin()",
     ]),
+    "house": ("House(term, limit, share)", [
+        "raw()", "made(parts)", "come(kind, day, count, duty)", "go(kind, day, count)", "strike_lot(lot)",
+        "strike_out(out)", "lay(kind, day)", "call_back(claim)", "do(deed)", "undo()", "redo()", "deeds()",
+        "twin()", "terms()", "kinds()", "is_raw(kind)", "holds(kind)", "lot(number)", "out(number)",
+        "lots(kind)", "outs(kind)", "left(kind, day)", "due(kind, day)", "refund(kind, day)",
+        "papers(kind, day)", "account(kind, day)", "claims()", "claim(number)", "purse()", "surety(wait)",
+    ]),
+    "desk": ("Desk(house)", ["ask(line)"]),
 }
 
 

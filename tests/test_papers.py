@@ -1,35 +1,13 @@
 import random
 import unittest
 
-from books import Flow, flow_best, tiny, units_above, untouched, wide
+from books import Flow, are_stretches, flow_best, sum_of_paper, tiny, units_above, untouched, wide
 from drawback.best import best
 from drawback.papers import good_paper, papers
 from refusals import FAR
 
 LOTS = [(10, 5, 3), (12, 4, 9), (30, 2, 1)]
 OUTS = [(12, 6), (15, 2), (30, 1)]
-
-
-def are_stretches(stretches):
-    """Whether all are stretches of days, rising, none beginning ahead of an end."""
-    ends = [end for stretch in stretches for end in stretch]
-    if not all(1 <= end <= 999 for end in ends):
-        return False
-    if not all(first <= last for first, last in stretches):
-        return False
-    return all(one[1] < other[0] for one, other in zip(stretches, stretches[1:]))
-
-
-def sum_of_paper(lots, outs, term, duty, stretches):
-    """What the units of a good paper are, lot by lot and out by out."""
-    total = 0
-    for day, count, paid in lots:
-        if paid >= duty and not any(first <= day <= last for first, last in stretches):
-            total += count
-    for first, last in stretches:
-        for day, count in outs:
-            total += count if first <= day <= last + term else 0
-    return total
 
 
 def some_stretches(chance, lots):

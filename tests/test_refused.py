@@ -20,7 +20,8 @@ NOT_DEALABLE = [[5, 4, 0], [5, 4, 2], [0, 0, 2]]
 
 GOOD = {
     "lots": LOTS, "outs": OUTS, "term": 3, "stretch": (10, 12), "taken": [4, 4, 1], "counts": [4, 4, 1],
-    "at": 1, "day": 12, "duty": 9, "most": 5, "rows": [(0, 0, 1)], "named": [(0, 7, 1), (2, -1, 5)], "paper": (3, 8, [(10, 12)]),
+    "at": 1, "day": 12, "duty": 9, "most": 5, "rows": [(0, 0, 1)],
+    "named": [(0, 7, 1), (2, -1, 5)], "paper": (3, 8, [(10, 12)]),
 }
 BAD = {
     "lots": [([(10, 5, 3)] * 31, BadRows), ([(0, 0, 0)] * 31, BadRows)]
